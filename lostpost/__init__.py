@@ -1,0 +1,1 @@
+"""Lostpost: letters that may get lost, words under words, and what can never come."""

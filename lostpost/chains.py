@@ -1,0 +1,22 @@
+"""What hangs on what comes behind it."""
+
+
+# Tells of the start what told_of(state, moves, told) makes of it, where told has
+# the same for each of the states in moves, a dict from letters to states. Moves
+# never lead back. A list of the states that wait stands in the place of calls
+# within calls, so that long chains do no harm.
+def told_from_last(start, moves_of, told_of):
+    moves = {}
+    told = {}
+    waiting = [start]
+    while waiting:
+        state = waiting[-1]
+        if state not in moves:
+            moves[state] = moves_of(state)
+        lacking = [further for further in moves[state].values() if further not in told]
+        if lacking:
+            waiting.append(lacking[0])
+        else:
+            told[state] = told_of(state, moves[state], told)
+            waiting.pop()
+    return told[start]
