@@ -20,11 +20,10 @@ def grown_joined(one, other):
 
 
 # Which words may follow a letter: again a grown set, at least as great. Only a
-# shortened word can newly lie under another one, and then under one that stayed.
+# shortened word can newly lie under another one; it lies under the one it came of.
 def grown_behind(grown, letter):
     shortened = [word[1:] for word in grown if word[:1] == letter]
-    stayed = [word for word in grown if word[:1] != letter]
-    kept = [word for word in stayed if not one_lies_under(shortened, word)]
+    kept = [word for word in grown if not one_lies_under(shortened, word)]
     return tuple(sorted(shortened + kept, key=word_order))
 
 

@@ -65,7 +65,7 @@ def piece_ahead(piece, products):
 def met_ends(one, other, met):
     if one == () or other == ():
         return ((),)
-    if one[0] == other[0] and one[0][0] == "maybe":
+    if one[0] == other[0]:
         return piece_ahead(one[0], met[(one[1:], other[1:])])
     if covers(other[0], one[0]):
         return piece_ahead(one[0], met[(one[1:], other)])
