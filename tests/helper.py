@@ -68,3 +68,94 @@ def words_in(expression, words):
 def product(text):
     """A product written shortly: `a` a maybe, `(ab)` an any."""
     return tuple(("any", many) if many else ("maybe", one) for many, one in re.findall(r"\(([a-z]+)\)|([a-z])", text))
+
+
+def some_deed(rng, letters, lines, flags):
+    kinds = ["go", "send", "send", "take", "take", "empty"] + ["set", "if"] * (flags > 0)
+    kind = rng.choice(kinds)
+    if kind in ("send", "take"):
+        return (kind, rng.randrange(lines), rng.choice(letters))
+    if kind == "empty":
+        return (kind, rng.randrange(lines))
+    if kind in ("set", "if"):
+        return (kind, rng.randrange(flags), rng.randrange(2))
+    return (kind,)
+
+
+def some_house(rng, letters=None, lines=None):
+    """A house let by."""
+    letters = letters or rng.choice(LETTERS)
+    lines = lines or rng.randint(1, 2)
+    flags = rng.randint(0, 2)
+    hands = []
+    for _ in range(rng.randint(1, 2)):
+        rooms = rng.randint(1, 3)
+        deeds = [some_deed(rng, letters, lines, flags) for _ in range(rng.randint(0, 5))]
+        hands.append((rooms, tuple((rng.randrange(rooms), deed, rng.randrange(rooms)) for deed in deeds)))
+    return (letters, lines, flags, tuple(hands))
+
+
+def some_standing(rng, house, most=4):
+    letters, lines, flags, hands = house
+    rooms = tuple(rng.randrange(count) for count, _ in hands)
+    words = tuple(some_word(rng, letters, most) for _ in range(lines))
+    return (rooms, tuple(rng.randrange(2) for _ in range(flags)), words)
+
+
+def standings_under(standing):
+    """All that comes of a standing by losses."""
+    rooms, flags, words = standing
+    return {(rooms, flags, less) for less in itertools.product(*(sorted(subwords(word)) for word in words))}
+
+
+def above(one, other):
+    """Whether one standing lies above another."""
+    return other in standings_under(one)
+
+
+def all_standings(house, most):
+    """All standings of a house with words of at most so many letters."""
+    letters, lines, flags, hands = house
+    rooms = itertools.product(*(range(count) for count, _ in hands))
+    values = itertools.product((0, 1), repeat=flags)
+    words = itertools.product(all_words(letters, most), repeat=lines)
+    return list(itertools.product(rooms, values, words))
+
+
+def done_by_hand(house, standing, hand, number):
+    """The standing behind a rule, or None where it can't be done."""
+    p, (kind, *rest), q = house[3][hand][1][number]
+    rooms, flags, words = (list(part) for part in standing)
+    able = {
+        "go": lambda: True,
+        "send": lambda l, x: True,
+        "take": lambda l, x: words[l][:1] == x,
+        "empty": lambda l: len(words[l]) == 0,
+        "set": lambda f, v: True,
+        "if": lambda f, v: flags[f] == v,
+    }
+    if rooms[hand] != p or not able[kind](*rest):
+        return None
+    rooms[hand] = q
+    if kind == "send":
+        words[rest[0]] += rest[1]
+    if kind == "take":
+        words[rest[0]] = words[rest[0]][1:]
+    if kind == "set":
+        flags[rest[0]] = rest[1]
+    return (tuple(rooms), tuple(flags), tuple(words))
+
+
+def rules_of(house):
+    return [(hand, number) for hand, (_, rules) in enumerate(house[3]) for number in range(len(rules))]
+
+
+def with_one_deed(house, standings):
+    """All that comes of these standings by one deed, with losses ahead and behind."""
+    told = set()
+    for less in {less for standing in standings for less in standings_under(standing)}:
+        for hand, number in rules_of(house):
+            behind = done_by_hand(house, less, hand, number)
+            if behind is not None:
+                told |= standings_under(behind)
+    return told
