@@ -2,7 +2,7 @@
 
 from lostpost.errors import NoText
 from lostpost.houses import is_standing
-from lostpost.words import is_alphabet, is_word
+from lostpost.words import is_alphabet, is_letter
 
 HEADS = ("letters", "lines", "flags")
 # What follows a deed's word in the row of a rule: 0 stands for a number, a for a letter.
@@ -12,10 +12,6 @@ SHAPES = {"go": "0", "send": "0a0", "take": "0a0", "empty": "00", "set": "000", 
 def is_number(word):
     figures = all(["0" <= sign <= "9" for sign in word])
     return figures and 1 <= len(word) <= 3 and (word == "0" or word[0] != "0")
-
-
-def is_letter(word):
-    return len(word) == 1 and is_word(word)
 
 
 def shape_of(word):

@@ -5,6 +5,10 @@ def is_word(text):
     return all(["a" <= sign <= "z" for sign in text])
 
 
+def is_letter(text):
+    return len(text) == 1 and is_word(text)
+
+
 def is_alphabet(text):
     rising = all([text[k - 1] < text[k] for k in range(1, len(text))])
     return is_word(text) and rising

@@ -159,3 +159,32 @@ def with_one_deed(house, standings):
             if behind is not None:
                 told |= standings_under(behind)
     return told
+
+
+def some_body(rng, letters, names):
+    things = [rng.choice(letters) if rng.random() < 0.6 else rng.randrange(names) for _ in range(rng.randint(0, 3))]
+    while sum(isinstance(thing, int) for thing in things) > 2:
+        things.remove(next(thing for thing in things if isinstance(thing, int)))
+    return tuple(things)
+
+
+def some_grammar(rng, letters=None):
+    """A grammar let by."""
+    letters = letters or rng.choice(LETTERS)
+    names = rng.randint(1, 3)
+    return (names, tuple((rng.randrange(names), some_body(rng, letters, names)) for _ in range(rng.randint(0, 6))))
+
+
+def made(grammar, most):
+    """For each name the words of at most so many letters that its rules make, by trying until nothing new comes."""
+    words = [set() for _ in range(grammar[0])]
+    grows = True
+    while grows:
+        grows = False
+        for name, body in grammar[1]:
+            parts = [sorted(words[thing]) if isinstance(thing, int) else [thing] for thing in body]
+            fresh = {"".join(row) for row in itertools.product(*parts)} - words[name]
+            fresh = {word for word in fresh if len(word) <= most}
+            grows = grows or bool(fresh)
+            words[name] |= fresh
+    return words

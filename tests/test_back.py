@@ -14,7 +14,8 @@ def least_of_standings(standings):
 
 def small_house(rng):
     """A house and how long the words of its standings may be, so that all standings can be walked."""
-    letters, lines, most = rng.choice((("a", 1, 3), ("ab", 1, 2), ("abc", 1, 1), ("a", 2, 1), ("ab", 2, 0), ("a", 2, 2)))
+    sizes = (("a", 1, 3), ("ab", 1, 2), ("abc", 1, 1), ("a", 2, 1), ("ab", 2, 0), ("a", 2, 2))
+    letters, lines, most = rng.choice(sizes)
     return some_house(rng, letters, lines), most
 
 

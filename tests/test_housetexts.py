@@ -13,8 +13,8 @@ ROWS = ("letters abc", "lines 2", "flags 1", "hand 3", "0 go 1", "0 send 0 a 1",
 HEAD = "letters ab\nlines 1\nflags 0\n"
 WRONG_NUMBERS = ("", "00", "01", "007", "1000", "-1", "+1", "1.", "x", "1_0", "\u0661", "0x1", "999999", "000", "12a")
 RULES = ("{} go 1", "0 go {}", "{} send 0 a 1", "0 send {} a 1", "0 send 0 a {}", "{} take 0 a 1", "0 take {} a 1",
-         "0 take 0 a {}", "{} empty 0 1", "0 empty {} 1", "0 empty 0 {}", "{} set 0 1 1", "0 set {} 1 1", "0 set 0 {} 1",
-         "0 set 0 1 {}", "{} if 0 1 1", "0 if {} 1 1", "0 if 0 {} 1", "0 if 0 1 {}")
+         "0 take 0 a {}", "{} empty 0 1", "0 empty {} 1", "0 empty 0 {}", "{} set 0 1 1", "0 set {} 1 1",
+         "0 set 0 {} 1", "0 set 0 1 {}", "{} if 0 1 1", "0 if {} 1 1", "0 if 0 {} 1", "0 if 0 1 {}")
 NUMBERS = (0, 1, 2, 9, 10, 99, 100, 101, 500, 999)
 ALL_LETTERS = "abcdefghijklmnopqrstuvwxyz"
 
@@ -103,7 +103,8 @@ class NoHouses(Refusing):
     def test_blanks_and_words_too_many(self):
         for at, row in enumerate(ROWS):
             for wrong in (" " + row, row + " ", row.replace(" ", "  ", 1), row + " 1", row + " a", row.upper(),
-                          row.rpartition(" ")[0], row.replace(" ", "\t"), row.replace(" ", "", 1), "x" + row, row + ".", "0 " + row):
+                          row.rpartition(" ")[0], row.replace(" ", "\t"), row.replace(" ", "", 1), "x" + row,
+                          row + ".", "0 " + row):
                 self.assert_no_house("\n".join(ROWS[:at] + (wrong,) + ROWS[at + 1:]), at)
 
     def test_letters(self):
