@@ -2,7 +2,7 @@
 
 
 # Tells of the start what told_of(state, moves, told) makes of it, where told has
-# the same for each of the states in moves, a dict from letters to states. Moves
+# the same for each of the states in moves, a dict whose values are states. Moves
 # never lead back. A list of the states that wait stands in the place of calls
 # within calls, so that long chains do no harm.
 def told_from_last(start, moves_of, told_of):

@@ -26,24 +26,32 @@ def joined(one, other):
     return plain(one + other)
 
 
+# A product within the other expression is whole in what both have, and what it has in
+# common with any product there lies within it; so only the others need to be met.
 def met(one, other):
-    # Told plain first, no two products are met more than once.
+    firsts = plain(one)
     seconds = plain(other)
-    products = []
-    for first in plain(one):
-        for second in seconds:
-            products.extend(products_met(first, second))
-    return plain(tuple(products))
+    whole = [product for product in firsts if is_in_one(product, seconds)]
+    whole.extend([product for product in seconds if is_in_one(product, firsts)])
+    shared = list(whole)
+    for first in [product for product in firsts if product not in whole]:
+        for second in [product for product in seconds if product not in whole]:
+            shared.extend(products_met(first, second))
+    return plain(tuple(shared))
 
 
 # Which words may follow a letter: again an expression, at most as great.
-def expression_behind(expression, letter):
+def ends_behind(expression, letter):
     ends = []
     for product in expression:
         place = place_behind(product, 0, ("maybe", letter))
         if place is not None:
             ends.append(product[place:])
-    return plain(tuple(ends))
+    return tuple(ends)
+
+
+def expression_behind(expression, letter):
+    return plain(ends_behind(expression, letter))
 
 
 def letters_in(expression):

@@ -175,6 +175,25 @@ def some_grammar(rng, letters=None):
     return (names, tuple((rng.randrange(names), some_body(rng, letters, names)) for _ in range(rng.randint(0, 6))))
 
 
+def rich_grammar(rng, letters=None):
+    """A grammar let by of which most names make words, few of them below themselves."""
+    letters = letters or rng.choice(LETTERS)
+    names = rng.randint(1, 3)
+    rules = []
+    for number in range(rng.randint(4, 6)):
+        name = number % names
+        lower = [rng.randrange(name + 1, names) for _ in range(rng.randint(0, 2)) if name + 1 < names]
+        if rng.random() < 0.2:
+            lower = [rng.randrange(names)]
+        body = lower + [rng.choice(letters) for _ in range(rng.randint(0, 3 - len(lower)))]
+        rules.append((name, tuple(rng.sample(body, len(body)))))
+    return (names, tuple(rng.sample(rules, len(rules))))
+
+
+def grammar_by_chance(rng, letters=None):
+    return rng.choice((some_grammar, rich_grammar))(rng, letters)
+
+
 def made(grammar, most):
     """For each name the words of at most so many letters that its rules make, by trying until nothing new comes."""
     words = [set() for _ in range(grammar[0])]
@@ -188,3 +207,39 @@ def made(grammar, most):
             grows = grows or bool(fresh)
             words[name] |= fresh
     return words
+
+
+def some_machine(rng):
+    rooms = rng.randint(1, 4)
+    ends = tuple(room for room in range(rooms) if rng.random() < 0.4)
+    letters = rng.choice(LETTERS)
+    arrows = [(rng.randrange(rooms), rng.choice(letters), rng.randrange(rooms)) for _ in range(rng.randint(0, 6))]
+    return (rooms, rng.randrange(rooms), ends, tuple(arrows))
+
+
+def made_under(grammar, most):
+    """For each name the words of at most so many letters under those that its rules make."""
+    names, rules = grammar
+    letters = sorted({thing for _, body in rules for thing in body if isinstance(thing, str)})
+    numbers = {letter: names + k for k, letter in enumerate(letters)}
+    left_out = [(number, ()) for number in numbers.values()]
+    left_in = [(number, (letter,)) for letter, number in numbers.items()]
+    bodies = [(name, tuple(numbers.get(thing, thing) for thing in body)) for name, body in rules]
+    return made((names + len(letters), tuple(bodies + left_out + left_in)), most)[:names]
+
+
+def under_by_size(grammar, greatest, most):
+    """For each name and size the words of at most so many letters under the words of its trees of this size."""
+    told = {(name, size): set() for name in range(grammar[0]) for size in range(greatest + 1)}
+    for size in range(1, greatest + 1):
+        for name, body in grammar[1]:
+            rows = {(1, "")}
+            for thing in body:
+                if isinstance(thing, str):
+                    rows |= {(used, word + thing) for used, word in rows}
+                else:
+                    rows = {(used + more, word + end) for used, word in rows
+                            for more in range(1, size - used + 1) for end in told[(thing, more)]}
+                rows = {(used, word) for used, word in rows if len(word) <= most}
+            told[(name, size)] |= {word for used, word in rows if used == size}
+    return told

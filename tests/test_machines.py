@@ -1,15 +1,7 @@
 import unittest
 
-from helper import all_words, chance, made
+from helper import all_words, chance, made, some_machine
 from lostpost.machines import grammar_of
-
-
-def some_machine(rng):
-    rooms = rng.randint(1, 4)
-    ends = tuple(room for room in range(rooms) if rng.random() < 0.4)
-    letters = rng.choice(("a", "ab", "abc"))
-    arrows = [(rng.randrange(rooms), rng.choice(letters), rng.randrange(rooms)) for _ in range(rng.randint(0, 6))]
-    return (rooms, rng.randrange(rooms), ends, tuple(arrows))
 
 
 def has_way(machine, word):
