@@ -51,18 +51,16 @@ def down_of_body(body, told):
     return begins
 
 
-# The rules of a ring lead round as often as one likes. Where one of them has two of
-# its names, each name comes again beside itself, so all letters come in any order.
-# Else what stands left and right of the one name comes again and again, until a
-# rule without a name of the ring ends it.
+# The rules of a ring lead round as often as one likes: what stands left and right of
+# a name of the ring comes again and again, in any order, until a rule without such a
+# name ends it. Where a second name of the ring stands beside the first, all letters
+# that come of it stand there, and so all of the ring.
 def down_of_ring(rules, ring, told):
     lefts = []
     rights = []
     middles = []
     for body in [rule[1] for rule in rules if rule[0] in ring]:
         places = [place for place, thing in enumerate(body) if thing in ring]
-        if len(places) > 1:
-            return (any_of(letters_from(rules, ring)),)
         if places:
             lefts.extend(body[:places[0]])
             rights.extend(body[places[0] + 1:])

@@ -2,7 +2,7 @@
 
 from lostpost.errors import NoText
 from lostpost.houses import is_standing
-from lostpost.words import is_alphabet, is_letter
+from lostpost.words import is_alphabet, is_letter, show_word
 
 HEADS = ("letters", "lines", "flags")
 # What follows a deed's word in the row of a rule: 0 stands for a number, a for a letter.
@@ -77,10 +77,6 @@ def read_house(text):
         if at == len(rows) or not is_head(rows[at], at):
             raise NoText(at)
     return (rows[0][1], int(rows[1][1]), int(rows[2][1]), read_hands(rows))
-
-
-def show_word(word):
-    return "." if word == "" else word
 
 
 def show_standing(standing):

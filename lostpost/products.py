@@ -6,7 +6,7 @@ def covers(piece, other):
 
 
 def piece_within(less, more):
-    return less == more or covers(more, less)
+    return less[1] in more[1] if less[0] == "maybe" else covers(more, less)
 
 
 # Where in a product, from a place on, one may go on behind a piece; None where it

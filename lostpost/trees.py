@@ -4,16 +4,16 @@ from lostpost.downs import down_of
 from lostpost.expressions import ends_behind, expression_has, is_in_one
 
 
-# A thing of a body may stand above a part of the word that begins at a place: told
-# are the ends of such parts, each with the size of the least tree for it, and the
-# tree in a tuple (of a letter none).
+# The letters of a tree's word are walked along the asked word: each that is the next
+# one there leads on by a place. So the word lies above a part of the asked one that
+# begins where the walk begins and ends where it ends. Told of a thing, from a place
+# on: where its walks end, the size of the least tree for each, the tree in a tuple.
 def ways_of_thing(thing, word, begin, best):
     if isinstance(thing, int):
         ends = [end for end in range(begin, len(word) + 1) if (thing, begin, end) in best]
         return [(end,) + best[(thing, begin, end)] for end in ends]
-    if word[begin:begin + 1] == thing:
-        return [(begin, 0, ()), (begin + 1, 0, ())]
-    return [(begin, 0, ())]
+    end = begin + 1 if word[begin:begin + 1] == thing else begin
+    return [(end, 0, ())]
 
 
 def ways_of_body(body, word, begin, best):
@@ -28,7 +28,7 @@ def ways_of_body(body, word, begin, best):
     return ways
 
 
-# For each name and part of the word, best has the least tree found so far.
+# For each name and each part of the word, best has the least tree found so far.
 def find_better(grammar, word, best):
     found = False
     for number, rule in enumerate(grammar[1]):
@@ -55,17 +55,17 @@ def changing_letters(ends, letters):
 
 
 # A word of the product that no product of the expression has, where it is within
-# none of them. Of an any, letters are taken as long as one of them changes what may
-# follow in the expression: then no further ones would, however many.
+# none of them. Letters that change nothing in what may follow are left out; of an
+# any, others are taken until none changes anything, so no more of them ever would.
 def word_outside(product, expression):
     word = ""
     ends = expression
     for kind, letters in product:
-        taken = letters if kind == "maybe" else changing_letters(ends, letters)
+        taken = changing_letters(ends, letters)
         while taken:
             word = word + taken[0]
             ends = ends_behind(ends, taken[0])
-            taken = "" if kind == "maybe" else changing_letters(ends, letters)
+            taken = [] if kind == "maybe" else changing_letters(ends, letters)
     return word
 
 

@@ -18,6 +18,10 @@ def word_order(word):
     return (len(word), word)
 
 
+def show_word(word):
+    return "." if word == "" else word
+
+
 def places(less, more):
     # The earliest place for each letter leaves the most room for those behind it.
     found = []

@@ -243,3 +243,12 @@ def under_by_size(grammar, greatest, most):
                 rows = {(used, word) for used, word in rows if len(word) <= most}
             told[(name, size)] |= {word for used, word in rows if used == size}
     return told
+
+
+def some_saying(rng, letters, deep):
+    kinds = ["yes", "no", "in", "in", "in"] + ["not", "and", "or"] * 2 * (deep > 0)
+    kind = rng.choice(kinds)
+    if kind == "in":
+        return (kind, some_word(rng, letters, 3))
+    counts = {"not": 1, "and": 2, "or": 2}
+    return (kind,) + tuple(some_saying(rng, letters, deep - 1) for _ in range(counts.get(kind, 0)))
