@@ -1,6 +1,17 @@
 """What hangs on what comes behind it."""
 
 
+# The letters that change what may follow, each with what may follow it; the other
+# ones may stand here as often as one likes.
+def changing_moves(letters, state, behind):
+    moves = {}
+    for letter in letters:
+        further = behind(state, letter)
+        if further != state:
+            moves[letter] = further
+    return moves
+
+
 # Tells of the start what told_of(state, moves, told) makes of it, where told has
 # the same for each of the states in moves, a dict whose values are states. Moves
 # never lead back. A list of the states that wait stands in the place of calls

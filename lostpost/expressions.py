@@ -1,6 +1,7 @@
 """Expressions: sets of words that only shrink."""
 
-from lostpost.products import place_behind, plain_products, product_has, product_within, products_met
+from lostpost.chains import changing_moves, told_from_last
+from lostpost.products import place_behind, plain_products, product_has, product_within
 
 
 def expression_has(expression, word):
@@ -26,20 +27,6 @@ def joined(one, other):
     return plain(one + other)
 
 
-# A product within the other expression is whole in what both have, and what it has in
-# common with any product there lies within it; so only the others need to be met.
-def met(one, other):
-    firsts = plain(one)
-    seconds = plain(other)
-    whole = [product for product in firsts if is_in_one(product, seconds)]
-    whole.extend([product for product in seconds if is_in_one(product, firsts)])
-    shared = list(whole)
-    for first in [product for product in firsts if product not in whole]:
-        for second in [product for product in seconds if product not in whole]:
-            shared.extend(products_met(first, second))
-    return plain(tuple(shared))
-
-
 # Which words may follow a letter: again an expression, at most as great.
 def ends_behind(expression, letter):
     ends = []
@@ -59,6 +46,37 @@ def letters_in(expression):
     for product in expression:
         texts.extend([piece[1] for piece in product])
     return sorted(set("".join(texts)))
+
+
+# The words that may stand from a place on: letters that change nothing as often as one
+# likes, then perhaps one of the moves and what is told behind it.
+def products_by_moves(letters, moves, told):
+    staying = "".join([letter for letter in letters if letter not in moves])
+    begin = (("any", staying),) if staying else ()
+    products = [begin]
+    for letter, further in moves.items():
+        products.extend([begin + (("maybe", letter),) + product for product in told[further]])
+    return plain(tuple(products))
+
+
+def both_behind(both, letter):
+    return (expression_behind(both[0], letter), expression_behind(both[1], letter))
+
+
+# Told ones may have hundreds of products, too many to meet each two of them; they are
+# met by what may follow each letter in both.
+def met(one, other):
+    letters = letters_in(one + other)
+
+    def moves_of(both):
+        return {} if () in both or both[0] == both[1] else changing_moves(letters, both, both_behind)
+
+    def told_of(both, moves, told):
+        if () in both:
+            return ()
+        return both[0] if both[0] == both[1] else products_by_moves(letters, moves, told)
+
+    return told_from_last((plain(one), plain(other)), moves_of, told_of)
 
 
 # Words are looked at in their order, each with what may follow it in the one and

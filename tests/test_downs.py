@@ -8,6 +8,7 @@ from lostpost.grammars import look_grammar
 from lostpost.grown import grown_within
 from lostpost.machines import grammar_of
 from lostpost.outsides import outside_of, outside_of_grown
+from lostpost.products import products_met
 from lostpost.trees import tree_above
 from lostpost.words import least, lies_under
 
@@ -129,6 +130,17 @@ class Down(unittest.TestCase):
             self.assertIs(within(met(one, other), one), True)
             self.assertEqual(parting(one, other) is None, one == other)
             self.assertEqual(outside_of_grown("abc", outside_of("abc", one)), one)
+
+    def test_many_products_met(self):
+        one = down_of(WIDE)[::9]
+        other = down_of((3, WIDE[1][:2] + ((1, ("b", 2, 2)),) + WIDE[1][4:] + ((2, ("a", "c", "b")),)))[::9]
+        told = met(one, other)
+        self.assertEqual(told, plain(told))
+        self.assertEqual(met(other, one), told)
+        self.assertTrue(within(told, one) and within(told, other))
+        for first, second in zip(one[::8], reversed(other)):
+            self.assertIs(within(products_met(first, second), told), True)
+        self.assertEqual(met(one, joined(one, other)), one)
 
     def test_asked_again_the_same_is_told(self):
         grammar = (2, ((0, (1, 1)), (1, (1, "a")), (1, ("b",))))

@@ -3,7 +3,7 @@ import unittest
 from helper import LETTERS, all_words, chance, in_order, product, some_expression, some_grown, some_product, words_in
 from lostpost.expressions import expression_has, joined, met, parting, plain, within
 from lostpost.outsides import outside_of_grown
-from lostpost.products import plain_product, product_within
+from lostpost.products import plain_product, product_within, products_met
 
 WORDS = {"a": all_words("a", 12), "ab": all_words("ab", 9), "abc": all_words("abc", 7)}
 
@@ -117,6 +117,13 @@ class WithinJoinedMet(unittest.TestCase):
         self.assertEqual(met(expression("(ab)", "(bc)"), expression("(ac)")), expression("(a)", "(c)"))
         self.assertIs(within(expression("a(b)", "c"), expression("(ab)", "(bc)")), True)
         self.assertIs(within(expression("(abc)"), expression("(ab)", "(bc)")), False)
+
+    def test_met_as_its_products_are(self):
+        rng = chance(39)
+        for _ in range(150):
+            one, other = some_expression(rng, "abc", 3, 6), some_expression(rng, "abc", 3, 6)
+            pairs = [products_met(first, second) for first in one for second in other]
+            self.assertEqual(met(one, other), plain(tuple(part for told in pairs for part in told)), (one, other))
 
     def test_products_twice(self):
         rng = chance(35)
